@@ -1,0 +1,1 @@
+"""Bringnear: what is so for all maps of a kind."""
