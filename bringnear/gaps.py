@@ -76,7 +76,7 @@ def gap_near_end(kind, cut):
     bottom = (square + 1) * steep - start
     if rise < 0:
         top = -top
-    return tuple(bottom * at + top * by for at, by in zip(centre, way))
+    return tuple([bottom * at + top * by for at, by in zip(centre, way)])
 
 
 def raising_pair(cut):

@@ -78,7 +78,7 @@ def gap_led(gap, lead):
 
 
 def product_row(row, table):
-    return tuple(dot(row, column) for column in zip(*table))
+    return tuple([dot(row, column) for column in zip(*table)])
 
 
 def product_table(lead, other):

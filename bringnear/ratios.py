@@ -94,7 +94,7 @@ def dot(row, other):
 
 
 def row_minus(row, other):
-    return tuple(minus(first, second) for first, second in zip(row, other))
+    return tuple([minus(first, second) for first, second in zip(row, other)])
 
 
 def whole_parts(fractions):

@@ -6,7 +6,7 @@ from fractions import Fraction
 from random import Random
 
 from bringnear.errors import EmptyLot
-from bringnear.kinds import bounded, disc_kind, gap_between, is_gap, lies_in, one_way, pulled
+from bringnear.kinds import bounded, disc_kind, gap_between, is_gap, is_kind, lies_in, one_way, pulled
 from bringnear.leads import led, step_lead
 from bringnear.lots import (
     any_gap, best_step, breaking_gap, brings, is_empty, is_lot, lot_lies_in, size_near, spreads,
@@ -365,6 +365,56 @@ class BestStep(unittest.TestCase):
         first, second, third = narrow
         self.assertEqual(best_step((narrow, UP)),
                          (pair(Fraction(first, second)), pair(Fraction(second ** 2 - first * third, second ** 2))))
+
+
+class LargeLots(unittest.TestCase):
+    def large_lots(self, count, seed, figures=300):
+        """Lots that hold one told gap, their numbers of some hundred figures."""
+        random = Random(seed)
+        for _ in range(count):
+            p, q, up = (random.randint(-10 ** figures, 10 ** figures) for _ in range(3))
+            gap = (p * p, p * q, q * q + abs(up))
+            lot = []
+            while len(lot) < random.randint(1, 4):
+                numbers = [random.randint(-10 ** figures, 10 ** figures) for _ in range(3)]
+                sign = -1 if value_at(numbers, gap) > 0 else 1
+                kind = tuple(sign * part for part in numbers)
+                if is_kind(kind):
+                    lot.append(kind)
+            yield tuple(lot), gap
+
+    def test_gaps(self):
+        for lot, gap in self.large_lots(60, 71):
+            self.assertFalse(is_empty(lot))
+            found = any_gap(lot)
+            self.assertTrue(is_gap(found) and is_true_gap(found))
+            for kind in lot:
+                self.assertLessEqual(value_at(kind, told(found)), 0)
+                self.assertTrue(lot_lies_in(lot, kind))
+            against = tuple(-part for part in lot[0])
+            found = breaking_gap(lot, against)
+            if found is None:
+                self.assertGreaterEqual(0, value_at(against, gap))
+            else:
+                self.assertGreater(value_at(against, told(found)), 0)
+                self.assertTrue(all(value_at(kind, told(found)) <= 0 for kind in lot))
+
+    def test_sizes_and_steps(self):
+        steps = 0
+        for lot, gap in self.large_lots(60, 72):
+            near = size_near(lot, 1000)
+            if near is not None:
+                count, is_just = near
+                self.assertLessEqual(Fraction(gap[2], gap[0]), Fraction(count + 1, 1000) ** 2)
+                self.assertTrue(brings(lot, pair(Fraction(count + 1, 1000) ** 2)))
+                self.assertIs(brings(lot, pair(Fraction(count, 1000) ** 2)), is_just)
+            found = best_step(lot)
+            if found is not None:
+                h, square = map(number, found)
+                self.assertTrue(step_brings(lot, h, square))
+                self.assertFalse(step_brings(lot, h * Fraction(10 ** 9 + 1, 10 ** 9), square))
+                steps += 1
+        self.assertGreater(steps, 3)
 
 
 class Repeated(unittest.TestCase):
