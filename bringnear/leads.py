@@ -81,8 +81,8 @@ def product_row(row, table):
     return tuple([dot(row, column) for column in zip(*table)])
 
 
-def product_table(lead, other):
-    return product_row(lead[0], other), product_row(lead[1], other)
+def product_table(table, other):
+    return tuple([product_row(row, other) for row in table])
 
 
 def lead_product(lead, other):

@@ -81,6 +81,11 @@ def over(first, second):
     return ratio(first[0] * second[1], first[1] * second[0])
 
 
+def is_up_to(first, second):
+    """Whether the first one is at most the second one."""
+    return first[0] * second[1] <= second[0] * first[1]
+
+
 def opposite(fraction):
     return -fraction[0], fraction[1]
 
@@ -97,12 +102,23 @@ def row_minus(row, other):
     return tuple([minus(first, second) for first, second in zip(row, other)])
 
 
+def common_bottom(rows):
+    """The least whole number above 0 that times each fraction of these rows is a whole number."""
+    bottom = 1
+    for row in rows:
+        for part in row:
+            bottom = lcm(bottom, part[1])
+    return bottom
+
+
+def whole_row(row, bottom):
+    """The whole numbers that these fractions are times the bottom, which they have in common."""
+    return tuple(top * (bottom // under) for top, under in row)
+
+
 def whole_parts(fractions):
     """Whole numbers that are one number above 0 times these fractions."""
-    bottom = 1
-    for part in fractions:
-        bottom = lcm(bottom, part[1])
-    return tuple(top * (bottom // under) for top, under in fractions)
+    return whole_row(fractions, common_bottom((fractions,)))
 
 
 def lowest(numbers):

@@ -7,7 +7,8 @@ from pathlib import Path
 
 PACKAGE = Path(__file__).parent.parent / "bringnear"
 FILES = sorted(PACKAGE.rglob("*.py"))
-MATH = {"gcd", "lcm", "isqrt", "comb", "perm", "factorial"}
+LIBRARY = {"math": {"gcd", "lcm", "isqrt", "comb", "perm", "factorial"}, "itertools": {"combinations"}}
+CALLED_BY_PLACE = set().union(*LIBRARY.values())
 BUILTINS = {
     "len", "range", "enumerate", "zip", "min", "max", "sum", "abs", "sorted", "reversed", "int", "str", "bool", "list",
     "tuple", "dict", "set", "isinstance", "any", "all", "divmod", "super", "ValueError",
@@ -32,9 +33,7 @@ def imported_names(tree):
 
 class Form(unittest.TestCase):
     def each_tree(self):
-        for path in FILES:
-            with self.subTest(file=path.name):
-                yield path, ast.parse(path.read_text(encoding="utf-8"))
+        return [(path, ast.parse(path.read_text(encoding="utf-8"))) for path in FILES]
 
     def test_folder(self):
         others = [path for path in PACKAGE.rglob("*")
@@ -68,12 +67,12 @@ class Form(unittest.TestCase):
                     self.assertEqual(node.level, 0)
                     names = {alias.name for alias in node.names}
                     self.assertTrue(all(alias.asname is None for alias in node.names))
-                    self.assertTrue(node.module in known or node.module == "math" and names <= MATH, node.module)
+                    self.assertTrue(node.module in known or names <= LIBRARY.get(node.module, set()), node.module)
 
     def test_imports_are_used(self):
-        for _, tree in self.each_tree():
+        for path, tree in self.each_tree():
             read = {node.id for node in ast.walk(tree) if isinstance(node, ast.Name) and isinstance(node.ctx, ast.Load)}
-            self.assertEqual(imported_names(tree) - read, set())
+            self.assertEqual(imported_names(tree) - read, set(), path.name)
 
     def test_module_level(self):
         for _, tree in self.each_tree():
@@ -120,7 +119,14 @@ class Form(unittest.TestCase):
         for _, tree in self.each_tree():
             for node in ast.walk(tree):
                 if isinstance(node, ast.Call) and any(isinstance(part, ast.Starred) for part in node.args):
-                    self.assertNotIn(node.func.id, MATH)
+                    self.assertNotIn(node.func.id, CALLED_BY_PLACE)
+
+    def test_combinations_are_gone_through_at_once(self):
+        for _, tree in self.each_tree():
+            calls = {node for node in ast.walk(tree) if isinstance(node, ast.Call) and isinstance(node.func, ast.Name)
+                     and node.func.id == "combinations"}
+            at_once = {node.iter for node in ast.walk(tree) if isinstance(node, ast.For)}
+            self.assertEqual(calls - at_once, set())
 
     def test_files_do_not_import_each_other(self):
         ways = {}
