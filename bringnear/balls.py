@@ -7,7 +7,7 @@ scale, the squares of their radii these whole numbers over its square.
 from itertools import combinations
 
 from bringnear.grids import solved, whole_dot
-from bringnear.ratios import ratio
+from bringnear.ratios import ONE, minus, over, plus, ratio
 
 
 def products_of(centres):
@@ -81,3 +81,17 @@ def room_of(balls, weights):
     row = borne(centres, parts)
     heights = [whole_dot(centre, centre) - square for centre, square in zip(centres, squares)]
     return ratio(whole_dot(row, row) - bottom * whole_dot(parts, heights), (bottom * scale) ** 2)
+
+
+def row_beside(balls, weights):
+    """A row within all balls beside the one that the weights bear, the room being above 0."""
+    scale, centres, _ = balls
+    first, *others = middle_of(balls, weights)
+    # By a step s, 0 < s <= 1, along the first unknown the square of a distance, of which the way along
+    # it is a, grows by 2 s a + s s, which is at most s (1 + 2 |a|): for all balls no more than the room.
+    reach = ONE
+    for centre in centres:
+        top, bottom = minus(first, ratio(centre[0], scale))
+        reach = plus(reach, (2 * abs(top), bottom))
+    top, bottom = over(reach, room_of(balls, weights))
+    return plus(first, (1, top // bottom + 1)), *others

@@ -2,7 +2,7 @@
 
 from itertools import combinations
 
-from bringnear.balls import middle_of, room_of, weights_of
+from bringnear.balls import middle_of, room_of, row_beside, weights_of
 from bringnear.errors import InvalidData, Misfit, NotClosed
 from bringnear.gaps import excess, form
 from bringnear.grids import whole_dot
@@ -23,24 +23,35 @@ def is_pair(value, lengths):
     return are_fractions(place, len(place)) and are_fractions(image, len(place))
 
 
+def wrong_index(items, is_item):
+    """The index of the first element that is no item, or not as long as the first one, or the seventh; None.
+
+    An item is what the function `is_item` takes for one with rows of one of the lengths told to it.
+    """
+    lengths = ROW_LENGTHS
+    for index, item in enumerate(items):
+        if index == MOST_PAIRS or not is_item(item, lengths):
+            return index
+        lengths = (len(item[0]),)
+    return None
+
+
+def are_items(value, is_item):
+    """Whether a value, whatever it is, is a tuple of one to six items, all as long as the first one."""
+    return isinstance(value, tuple) and value != () and wrong_index(value, is_item) is None
+
+
 def is_data(value):
     """Whether a value, whatever it is, is data."""
-    if not isinstance(value, tuple) or not 1 <= len(value) <= MOST_PAIRS:
-        return False
-    if not is_pair(value[0], ROW_LENGTHS):
-        return False
-    lengths = (len(value[0][0]),)
-    return all(is_pair(pair, lengths) for pair in value)
+    return are_items(value, is_pair)
 
 
 def check_data(value):
     if not isinstance(value, tuple) or value == ():
         raise InvalidData(None)
-    lengths = ROW_LENGTHS
-    for index, pair in enumerate(value):
-        if index == MOST_PAIRS or not is_pair(pair, lengths):
-            raise InvalidData(index)
-        lengths = (len(pair[0]),)
+    index = wrong_index(value, is_pair)
+    if index is not None:
+        raise InvalidData(index)
 
 
 def check_data_row(value, data):
@@ -143,3 +154,10 @@ def bearing(kind, data, place):
     """Any bearing weights of the middle."""
     bottom, weights = weights_of(checked_balls(kind, data, place))
     return tuple([ratio(number, bottom) for number in weights])
+
+
+def two_values(kind, data, place):
+    """Two unlike values that the place can be led to, which is not settled."""
+    balls = checked_balls(kind, data, place)
+    weights = weights_of(balls)
+    return middle_of(balls, weights), row_beside(balls, weights)

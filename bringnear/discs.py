@@ -126,12 +126,15 @@ def place_on(upper, lower):
     return DOWN if place[0] < -place[1] else place
 
 
+def lines_at(upper, lower, place):
+    """What p and q are there."""
+    return tuple([plus(start, times(rise, place)) for start, rise in (upper, lower)])
+
+
 def worst_on(upper, lower):
     """P and Q: what p and q are at their place."""
     place = place_on(upper, lower)
-    if place is None:
-        place = NIL
-    return tuple([plus(start, times(rise, place)) for start, rise in (upper, lower)])
+    return lines_at(upper, lower, NIL if place is None else place)
 
 
 def check_blend(first, second, mix):
@@ -163,6 +166,12 @@ def blend_worst(first, second, mix, centre):
     return worst_on(upper, lower)
 
 
+def roots_are_within(one, other, radius):
+    """Whether the sum of the roots of two fractions from 0 on is at most the radius, from 0 on, too."""
+    left = minus(square(radius), plus(one, other))
+    return left[0] >= 0 and is_up_to(times((4, 1), times(one, other)), square(left))
+
+
 def blend_fits(first, second, mix, disc):
     """Whether all blends are of the disc."""
     check_blend(first, second, mix)
@@ -170,8 +179,7 @@ def blend_fits(first, second, mix, disc):
     centre, radius = disc
     upper, lower = line_pairs(first, second, mix, centre)
     one, other = worst_on(upper, lower)
-    left = minus(square(radius), plus(one, other))
-    return left[0] >= 0 and is_up_to(times((4, 1), times(one, other)), square(left))
+    return roots_are_within(one, other, radius)
 
 
 def root_sum_near(one, other, many):

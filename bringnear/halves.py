@@ -8,7 +8,7 @@ numbers: the row of these numbers over the bottom, which is above 0.
 from itertools import combinations
 
 from bringnear.grids import solved, unit, whole_dot
-from bringnear.ratios import ratio
+from bringnear.ratios import dot, plus, ratio
 
 
 def slack(half, corner):
@@ -88,6 +88,18 @@ def is_endless_and_broad(halves, many):
 def row_of(corner):
     numbers, bottom = corner
     return tuple([ratio(number, bottom) for number in numbers])
+
+
+def inner_and_way(halves, many):
+    """A row at the end of none of the half spaces, and a way that never leaves their endless, broad part."""
+    ways = ways_of(halves, many - 1)
+    rows = [row_of(corner) for corner in corners_of(halves, many)]
+    # Each half space leaves some corner or some way behind its end, so the mean of all corners, led
+    # on by all ways, too.
+    shares = [(1, len(rows)) for _ in rows]
+    whole_way = [(sum(numbers), 1) for numbers in zip(*ways)]
+    inner = [plus(dot(shares, column), part) for column, part in zip(zip(*rows), whole_way)]
+    return tuple(inner), tuple([(number, 1) for number in ways[0]])
 
 
 def any_common(halves, many):

@@ -58,12 +58,24 @@ def breaking_gap(lot, kind):
     return told_gap(found_gap(lot, kind))
 
 
+def size_cut(square):
+    """The cut with a form above 0 where c is above the square times a."""
+    top, bottom = square
+    return bottom, 0, -top
+
+
 def brings(lot, square):
     """Whether the lot brings near by the square."""
     check_lot(lot)
     check_square(square)
-    top, bottom = square
-    return found_gap(lot, (bottom, 0, -top)) is None
+    return found_gap(lot, size_cut(square)) is None
+
+
+def parting_gap(lot, square):
+    """Any gap that the lot holds, with c above the square times a; None."""
+    check_lot(lot)
+    check_square(square)
+    return told_gap(found_gap(lot, size_cut(square)))
 
 
 def spreads(lot, square):

@@ -14,6 +14,11 @@ def is_whole(value):
     return isinstance(value, int) and not isinstance(value, bool)
 
 
+def is_index(value, many):
+    """Whether a value, whatever it is, is the index of one of so many things."""
+    return is_whole(value) and 0 <= value < many
+
+
 def is_fraction(value):
     """Whether a value, whatever it is, is a fraction."""
     if not isinstance(value, tuple) or len(value) != 2:

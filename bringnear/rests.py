@@ -5,7 +5,7 @@ from bringnear.data import all_fit, check_data, check_data_row, check_fitting
 from bringnear.errors import Wild
 from bringnear.gaps import excess
 from bringnear.grids import whole_dot
-from bringnear.halves import any_common, is_endless_and_broad, only_common
+from bringnear.halves import any_common, inner_and_way, is_endless_and_broad, only_common
 from bringnear.kinds import check_kind
 from bringnear.ratios import NIL, common_bottom, lowest, whole_row
 
@@ -129,3 +129,8 @@ def settled_rest(kind, data):
     check_rests(kind, data)
     check_tame(kind)
     return only_rest(kind, data)
+
+
+def drift(kind, data):
+    """An inner row of what can rest, and a way that never leaves it, for data with the word loose."""
+    return inner_and_way(rest_halves(kind, data), len(data[0][0]))

@@ -1,16 +1,21 @@
 """All functions of the interface, each with a good call and the wrong values of its parameters."""
 
-from bringnear import data, discs, errors, kinds, leads, lots, rests, tables
+from bringnear import certificates, checker, data, discs, errors, functions, kinds, leads, lots, rates, rests, tables
 from tests.helpers import HALF, LESS, NIL, ONE, TWO
 from tests.wrong_values import (
-    DATA, DISC, FRACTION, GAP, KIND, LEAD, LOT, MANY, MIX, NEAR, NO_DATA, NO_DISC, NO_GAP, NO_KIND, NO_LEAD, NO_LOT,
-    NO_MIX, NO_OTHER_TABLE, NO_ROW, NO_TABLE, OTHER, PART, SECOND, SHARE, SIZE, SQUARE, STEP, STEP_NUMBER, TABLE,
-    no_rows,
+    DATA, DISC, DOWNWARD_STEP, FEW, FRACTION, GAP, KIND, LEAD, LOT, MANY, MARKS, METHOD, MIX, NEAR, NO_DATA, NO_DISC,
+    NO_GAP, NO_INDEX, NO_KIND, NO_LEAD, NO_LOT, NO_MARKS, NO_METHOD, NO_MIX, NO_OTHER_TABLE, NO_POINTS, NO_RATE,
+    NO_RATE_SPAN, NO_ROW, NO_SPAN, NO_TABLE, NO_WEIGHTS, OTHER, PART, POINTS, SECOND, SHARE, SHORT_STEP, SIZE, SPAN,
+    SQUARE, STEP, STEP_NUMBER, TABLE, WEIGHTS, no_rows,
 )
 
 ROW = (ONE, HALF)
 BLEND = (("first", DISC, NO_DISC), ("second", NEAR, NO_DISC), ("mix", MIX, NO_MIX))
 KNOWN = (("kind", KIND, NO_KIND), ("data", DATA, NO_DATA))
+HAVING = (("span", SPAN, NO_SPAN), ("points", POINTS, NO_POINTS))
+TWO_OF_THEM = (*HAVING, ("first", 2, NO_INDEX), ("second", 1, NO_INDEX))
+RATE = (("span", SPAN, NO_RATE_SPAN), ("method", METHOD, NO_METHOD), ("share", HALF, NO_RATE))
+DESCENT = (("size", TWO, SIZE), ("step", HALF, SHORT_STEP), ("number", 3, FEW))
 
 # The function, its parameters in their order, each with a good value and the wrong ones.
 CALLS = (
@@ -77,14 +82,43 @@ CALLS = (
     (rests.any_rest, KNOWN),
     (rests.rest_word, KNOWN),
     (rests.settled_rest, KNOWN),
+    (functions.rise, TWO_OF_THEM),
+    (functions.misfit_of_marks, (("span", SPAN, NO_SPAN), ("marks", MARKS, NO_MARKS))),
+    (functions.ring, HAVING),
+    (functions.values_for, HAVING),
+    (functions.difference_range, TWO_OF_THEM),
+    (functions.kind_of_span, (("span", SPAN, NO_SPAN),)),
+    (rates.form, (*RATE, ("weights", WEIGHTS, NO_WEIGHTS))),
+    (rates.shows_rate, (*RATE, ("weights", WEIGHTS, NO_WEIGHTS))),
+    (rates.is_run, (("method", METHOD, NO_METHOD), ("marks", MARKS, NO_MARKS))),
+    (rates.breaks_rate, (*RATE, ("marks", MARKS, NO_MARKS))),
+    (rates.descent, (("step", TWO, DOWNWARD_STEP), ("number", 3, FEW))),
+    (rates.descent_share, DESCENT),
+    (rates.descent_weights, (("number", 3, FEW),)),
+    (rates.descent_marks, (*DESCENT, ("far", HALF, SIZE))),
+    (certificates.certify_lot, (("lot", LOT, NO_LOT), ("kind", KIND, NO_KIND))),
+    (certificates.certify_some, (("lot", LOT, NO_LOT),)),
+    (certificates.certify_bringing, (("lot", LOT, NO_LOT), ("square", HALF, SQUARE))),
+    (certificates.certify_blend, (*BLEND, ("disc", NEAR, NO_DISC))),
+    (certificates.certify_table, (("table", TABLE, NO_TABLE), ("kind", KIND, NO_KIND))),
+    (certificates.certify_map, KNOWN),
+    (certificates.certify_place, (*KNOWN, ("place", ROW, NO_ROW))),
+    (certificates.certify_rest, KNOWN),
+    (certificates.certify_function, HAVING),
+    (certificates.certify_descent, DESCENT),
 )
-WHATEVER = (kinds.is_kind, kinds.is_gap, leads.is_lead, lots.is_lot, discs.is_disc, tables.is_table, data.is_data)
+WHATEVER = (
+    kinds.is_kind, kinds.is_gap, leads.is_lead, lots.is_lot, discs.is_disc, tables.is_table, data.is_data,
+    functions.is_span, rates.is_method,
+)
 
 EMPTY = ((1, 0, -1), (0, 1, 4))
 # A kind that is a side, one that is open, and one, closed, whose rest number is below 0.
 SIDE, OPEN, WILD = (0, 1, 0), (-1, 0, 1), (1, 2, 2)
 STILL = (((ONE, ONE), (ONE, ONE)), ((TWO, ONE), (TWO, ONE)))
 FAST = (*DATA[:2], ((ONE, NIL), (ONE, TWO)))
+# Three points with a ring: the first two do not go together.
+BARRED = (POINTS[0], ((TWO, NIL), (ONE, NIL)), POINTS[1])
 
 
 def last_of_data(function, *behind):
@@ -120,6 +154,14 @@ LAST = (
     (rests.settled_rest, (WILD, STILL), errors.Wild, {}),
     (rests.rest_word, (WILD, STILL[:1]), errors.Wild, {}),
     (rests.settled_rest, (WILD, STILL[:1]), errors.Wild, {}),
+    *((functions.difference_range, (SPAN, BARRED, first, second), errors.NoFunction, {})
+      for first in range(3) for second in range(3)),
+    (certificates.certify_map, (SIDE, DATA), errors.NotClosed, {}),
+    (certificates.certify_map, (OPEN, FAST), errors.NotClosed, {}),
+    *last_of_data(certificates.certify_place, ROW),
+    *last_of_data(certificates.certify_rest),
+    (certificates.certify_rest, (WILD, STILL), errors.Wild, {}),
+    (certificates.certify_rest, (WILD, STILL[:1]), errors.Wild, {}),
 )
 
 INTERFACE = {
@@ -133,4 +175,9 @@ INTERFACE = {
             "rest_of_table run_of_table",
     data: "is_data misfit could_lead middle room settled bearing",
     rests: "rest_number can_rest any_rest rest_word settled_rest",
+    functions: "is_span rise misfit_of_marks ring values_for difference_range kind_of_span",
+    rates: "is_method form shows_rate is_run breaks_rate descent descent_share descent_weights descent_marks",
+    checker: "accepts",
+    certificates: "certify_lot certify_some certify_bringing certify_blend certify_table certify_map certify_place "
+                  "certify_rest certify_function certify_descent",
 }

@@ -33,7 +33,7 @@ class Examples(unittest.TestCase):
                 with self.subTest(line=line):
                     run_example(self, line[4:], wanted, names)
                 count += 1
-        self.assertEqual(count, 43)
+        self.assertEqual(count, 65)
 
 
 if __name__ == "__main__":

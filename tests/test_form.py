@@ -7,7 +7,8 @@ from pathlib import Path
 
 PACKAGE = Path(__file__).parent.parent / "bringnear"
 FILES = sorted(PACKAGE.rglob("*.py"))
-LIBRARY = {"math": {"gcd", "lcm", "isqrt", "comb", "perm", "factorial"}, "itertools": {"combinations"}}
+PRODUCTS = {"combinations", "permutations"}
+LIBRARY = {"math": {"gcd", "lcm", "isqrt", "comb", "perm", "factorial"}, "itertools": PRODUCTS}
 CALLED_BY_PLACE = set().union(*LIBRARY.values())
 BUILTINS = {
     "len", "range", "enumerate", "zip", "min", "max", "sum", "abs", "sorted", "reversed", "int", "str", "bool", "list",
@@ -80,7 +81,17 @@ class Form(unittest.TestCase):
                 plain = isinstance(node, (ast.ImportFrom, ast.FunctionDef, ast.ClassDef, ast.Assign))
                 self.assertTrue(plain or isinstance(node, ast.Expr) and isinstance(node.value, ast.Constant))
                 if isinstance(node, ast.Assign):
-                    ast.literal_eval(node.value)
+                    self.check_plain(node.value, {part.name: part.lineno for part in tree.body
+                                                  if isinstance(part, ast.FunctionDef)})
+
+    def check_plain(self, value, functions):
+        """A plain value, or a table of functions that are defined above it in the file."""
+        if isinstance(value, ast.Dict) and isinstance(value.values[0], ast.Name):
+            for key, part in zip(value.keys, value.values):
+                ast.literal_eval(key)
+                self.assertLess(functions[part.id], value.lineno)
+            return
+        ast.literal_eval(value)
 
     def test_names(self):
         for _, tree in self.each_tree():
@@ -121,10 +132,10 @@ class Form(unittest.TestCase):
                 if isinstance(node, ast.Call) and any(isinstance(part, ast.Starred) for part in node.args):
                     self.assertNotIn(node.func.id, CALLED_BY_PLACE)
 
-    def test_combinations_are_gone_through_at_once(self):
+    def test_products_are_gone_through_at_once(self):
         for _, tree in self.each_tree():
             calls = {node for node in ast.walk(tree) if isinstance(node, ast.Call) and isinstance(node.func, ast.Name)
-                     and node.func.id == "combinations"}
+                     and node.func.id in PRODUCTS}
             at_once = {node.iter for node in ast.walk(tree) if isinstance(node, ast.For)}
             self.assertEqual(calls - at_once, set())
 

@@ -7,12 +7,12 @@ pairs.
 import inspect
 import unittest
 
-from bringnear import errors, kinds
+from bringnear import checker, errors, kinds
 from tests.calls import CALLS, INTERFACE, LAST, WHATEVER
 from tests.helpers import ANYTHING, NIL, ONE
 from tests.wrong_values import (
-    DATA, DISC, GAP, KIND, LEAD, LOT, NO_DATA, NO_DISCS, NO_FRACTIONS, NO_GAPS, NO_KINDS, NO_LEADS, NO_LOT,
-    NO_MIXES, NO_TABLES, TABLE,
+    DATA, DISC, GAP, KIND, LEAD, LOT, METHOD, NO_DATA, NO_DISCS, NO_FRACTIONS, NO_GAPS, NO_KINDS, NO_LEADS, NO_LOT,
+    NO_METHODS, NO_MIXES, NO_SPANS, NO_TABLES, SPAN, TABLE,
 )
 
 
@@ -29,7 +29,8 @@ class WrongArguments(unittest.TestCase):
             self.assertEqual((type(found), found), (type(wanted), wanted))
 
     def test_each_function_is_tested(self):
-        tested = {call for call, _ in CALLS} | set(WHATEVER)
+        # The tests of the checker pass it whatever it is.
+        tested = {call for call, _ in CALLS} | set(WHATEVER) | {checker.accepts}
         for module in INTERFACE:
             for name in interface_names(module):
                 self.assertIn(getattr(module, name), tested, name)
@@ -94,20 +95,20 @@ class WrongArguments(unittest.TestCase):
                     self.assertIsNone(caught.exception.index)
 
     def test_whatever_it_is(self):
-        tested = (*ANYTHING, *NO_FRACTIONS, *NO_KINDS, *NO_GAPS, *NO_LEADS, *NO_DISCS, *NO_MIXES, *NO_TABLES, [LOT],
-                  {KIND: GAP}, *(row[0] for row in NO_DATA))
+        tested = (*ANYTHING, *NO_FRACTIONS, *NO_KINDS, *NO_GAPS, *NO_LEADS, *NO_DISCS, *NO_MIXES, *NO_TABLES,
+                  *NO_SPANS, *NO_METHODS, [LOT], {KIND: GAP}, *(row[0] for row in NO_DATA))
         for value in tested:
             found = [function(value) for function in WHATEVER]
             self.assertTrue(all(type(told) is bool for told in found), value)
-        right = dict(zip((KIND, GAP, LEAD, LOT, DISC, TABLE, DATA), WHATEVER))
+        right = dict(zip((KIND, GAP, LEAD, LOT, DISC, TABLE, DATA, SPAN, METHOD), WHATEVER))
         for value in right:
             self.assertIs(right[value](value=value), True)
 
     def test_whatever_it_is_not(self):
         no_lots, no_data = [row[0] for row in NO_LOT], [row[0] for row in NO_DATA]
-        wrong = (NO_KINDS, NO_GAPS, NO_LEADS, no_lots, NO_DISCS, NO_TABLES, no_data)
+        wrong = (NO_KINDS, NO_GAPS, NO_LEADS, no_lots, NO_DISCS, NO_TABLES, no_data, NO_SPANS, NO_METHODS)
         for function, values in zip(WHATEVER, wrong):
-            for value in (*ANYTHING, *values):
+            for value in values:
                 self.assertIs(function(value), False, (function.__name__, value))
 
     def test_arguments_are_not_changed(self):

@@ -9,6 +9,10 @@ LEAD = ((ONE, HALF), (TWO, LESS))
 LOT = (KIND, OTHER)
 DISC, NEAR, MIX = (HALF, TWO), (NIL, ONE), (HALF, LESS, TWO)
 TABLE, SECOND = ((ONE, HALF), (NIL, TWO)), ((HALF, NIL), (LESS, NIL))
+SPAN, METHOD = (HALF, (3, 1)), ((HALF,), (LESS, TWO))
+POINTS = (((ONE, NIL), (TWO, NIL)), ((NIL, NIL), (NIL, NIL)), ((NIL, ONE), (NIL, ONE)))
+MARKS = tuple((*point, value) for point, value in zip(POINTS, (ONE, NIL, HALF)))
+WEIGHTS = ((0, 1, HALF), (1, 2, ONE), (3, 0, HALF), (3, 2, TWO))
 # They fit KIND; what they leave open is a ball.
 DATA = (((NIL, NIL), (NIL, NIL)), ((TWO, NIL), (NIL, ONE)), ((NIL, (4, 1)), (HALF, (3, 1))))
 
@@ -52,6 +56,22 @@ NO_TABLES = (*ANYTHING, [(ONE, HALF), (NIL, TWO)], ([ONE, HALF], (NIL, TWO)), ((
              nested(14))
 # Tables, but not of two rows.
 OTHER_TABLES = (((ONE,),), ((ONE,) * 3,) * 3, ((NIL,) * 4,) * 4)
+
+
+NO_SPANS = (*ANYTHING, (HALF, HALF), (HALF, NIL), (HALF, (1, 3)), (LESS, ONE), (LESS, None), ((-1, BIG), None),
+            [HALF, ONE], [NIL, None], (NIL,), (NIL, ONE, ONE), (None, ONE), (None, None), (NIL, (2, 2)), ((0, 2), None),
+            (NIL, (1, 0)), (NIL, True), (NIL, False), (NIL, 1), (0, ONE), (NIL, ()), (NIL, [1, 1]), ([0, 1], ONE),
+            (NIL, (True, 1)), ((False, 1), ONE), (NIL, (1, -1)), (NIL, "L"), KIND, GAP, LEAD, (SPAN,), "ab",
+            (ONE, (BIG, BIG + 1)), ((BIG + 1, BIG), (BIG + 1, BIG)), nested(14))
+# Spans for functions, but not for rates.
+OPEN_SPANS = ((NIL, None), (HALF, None), ((BIG, 1), None))
+NO_METHODS = (*(value for value in ANYTHING if value != ()), [(HALF,), (LESS, TWO)], ([HALF], (LESS, TWO)),
+              ((HALF,), [LESS, TWO]), ((HALF,), (LESS,)), ((HALF,), (LESS, TWO, ONE)), ((HALF, ONE),), ((),),
+              ((HALF,), ()), ((HALF,), None), (HALF,), HALF, ((HALF,), (LESS, (2, 2))), ((HALF,), (LESS, (1, 0))),
+              ((HALF,), ((True, 1), TWO)), ((HALF,), (None, TWO)), ((HALF,), (1, 2)), ((0,),), ("a", "ab"),
+              ((HALF,), (HALF,) * 2, (HALF,) * 3, (HALF,) * 4, (HALF,) * 5),
+              tuple((ONE,) * (at + 1) for at in range(60)), ((HALF,), HALF), ((LESS, TWO), (HALF,)), (((HALF,),),), KIND,
+              (METHOD,), nested(14))
 
 
 def with_given(error, values):
@@ -113,6 +133,45 @@ def no_data():
     return with_index(errors.InvalidData, wrong)
 
 
+def no_items(error, items, no_item, short, long):
+    """Wrong values for two or three items of two unknowns, beside what is no item and items of one and of three."""
+    wrong = [(value, None) for value in ANYTHING if not isinstance(value, tuple)]
+    wrong += [(value, 0) for value in ANYTHING if isinstance(value, tuple) and value != ()]
+    wrong += [((), None), (list(items), None), (items[0], 0), ((items,), 0), ((items * 4)[:6] + (None,), 6),
+              (items * 20, 6), ((None,) * 60, 0), ((*items, None, *items), len(items)), (nested(14), 0)]
+    for bad in no_item:
+        wrong += [((bad, *items), 0), ((items[0], bad, items[1], bad), 1), (((items * 4)[:5] + (bad,)), 5)]
+    wrong += [((short, items[0]), 1), ((items[0], short), 1), ((items[1], items[0], long, short), 2),
+              ((long, long, short), 2), ((short, short, long, None), 2)]
+    return with_index(error, wrong)
+
+
+def no_marks():
+    x, u, value = MARKS[0]
+    wrong = [(*pair, value) for pair in no_pairs((x, u)) if isinstance(pair, tuple) and pair != ()]
+    wrong += [(x, u, part) for part in NO_FRACTIONS]
+    wrong += [(x, u), (x, u, value, value), [x, u, value], ((x, u), value), (value, x, u), (x, value, u), x, value, (),
+              None, {0: x, 1: u, 2: value}, MARKS, *ANYTHING]
+    return no_items(errors.InvalidMarks, MARKS, wrong, ((ONE,), (HALF,), ONE), ((ONE,) * 3, (HALF,) * 3, ONE))
+
+
+def no_weights():
+    """Wrong weights for a method of two rows."""
+    wrong = [(value, None) for value in ANYTHING if not isinstance(value, tuple)]
+    wrong += [(value, 0) for value in ANYTHING if isinstance(value, tuple) and value != ()]
+    wrong += [(list(WEIGHTS), None), (WEIGHTS[0], 0), ((WEIGHTS,), 0), ((None,) * 60, 0), ((*WEIGHTS, None), 4),
+              (WEIGHTS[::-1], 1), ((WEIGHTS[1], WEIGHTS[0]), 1), ((*WEIGHTS, WEIGHTS[3]), 4), (WEIGHTS[:1] * 2, 1),
+              ((WEIGHTS[0], (0, 1, TWO)), 1), ((*WEIGHTS[:2], (1, 0, ONE)), 2), ((*WEIGHTS[:3], (3, 0, (BIG, 1))), 3),
+              ((WEIGHTS[2], (2, 3, ONE), None), 1)]
+    for bad in ((0, 0, ONE), (3, 3, ONE), (0, 4, ONE), (4, 0, ONE), (-1, 0, ONE), (0, -1, ONE), (BIG, 0, ONE),
+                (0, BIG, ONE), (0, 1), (0, 1, ONE, ONE), [0, 1, ONE], (0, 1, NIL), (0, 1, LESS), (0, 1, (-1, BIG)),
+                (0, 1, 1), (0, 1, None), (0, 1, (2, 2)), (0, 1, [1, 1]), (0, 1, (True, 1)), (False, 1, ONE),
+                (0, True, ONE), (None, 1, ONE), (0, None, ONE), ("0", 1, ONE), ((0,), 1, ONE), (ONE, TWO, ONE),
+                (NIL, 1, ONE), ((0, 1), ONE), "abc", KIND, nested(13), *ANYTHING):
+        wrong += [((bad,), 0), ((bad, *WEIGHTS), 0), ((*WEIGHTS[:2], bad, WEIGHTS[0], bad), 2)]
+    return with_index(errors.InvalidWeights, wrong)
+
+
 FRACTION = with_given(errors.InvalidFraction, NO_FRACTIONS)
 SIZE = with_given(errors.InvalidSize, NO_SIZES)
 SQUARE = with_given(errors.InvalidSquare, NO_SQUARES)
@@ -131,3 +190,21 @@ NO_TABLE = with_given(errors.InvalidTable, NO_TABLES)
 NO_OTHER_TABLE = with_given(errors.InvalidTable, (*NO_TABLES, *OTHER_TABLES))
 NO_ROW = no_rows(2)
 NO_DATA = no_data()
+NO_SPAN = with_given(errors.InvalidSpan, NO_SPANS)
+NO_RATE_SPAN = with_given(errors.InvalidSpan, (*NO_SPANS, *OPEN_SPANS))
+NO_METHOD = with_given(errors.InvalidMethod, NO_METHODS)
+NO_POINTS = no_items(errors.InvalidPoints, POINTS, [*no_pairs(POINTS[0]), MARKS[0]], ((ONE,), (HALF,)),
+                     ((ONE,) * 3, (HALF,) * 3))
+NO_MARKS = no_marks()
+NO_WEIGHTS = no_weights()
+# For three points.
+NO_INDEX = with_given(errors.InvalidIndex, [
+    *(value for value in ANYTHING if isinstance(value, bool) or value not in (0, 1)), 3, -1, -3, 6, BIG, -BIG, NIL,
+    (2,), [0], "2", nested(14)])
+NO_RATE = with_given(errors.InvalidShare, NO_SQUARES)
+DOWNWARD_STEP = with_given(errors.InvalidStep, NO_SIZES)
+# Beside the size 2.
+SHORT_STEP = with_given(errors.InvalidStep, [*NO_SIZES, ONE, TWO, (2, 3), (BIG, 1), (BIG // 2 + 1, BIG)])
+FEW = with_given(errors.InvalidNumber, [
+    *(value for value in ANYTHING if isinstance(value, bool) or value not in (0, 1)), 5, -1, 12, BIG, -BIG, ONE, NIL,
+    [3], (3,), "3"])
