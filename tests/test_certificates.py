@@ -9,7 +9,7 @@ from bringnear.certificates import (
     certify_rest, certify_some, certify_table,
 )
 from bringnear.checker import accepts
-from bringnear.data import could_lead, misfit, room, settled
+from bringnear.data import could_lead, middle, misfit, room, settled
 from bringnear.discs import blend_fits
 from bringnear.functions import ring
 from bringnear.kinds import bounded, one_way, pulled
@@ -220,6 +220,15 @@ class MapCertificates(Certificates):
         self.check(self.PLACES, True, certify_place, CALM, SPUN[:2], row(0, 0))
         self.assertEqual(certify_place(place=row(1), data=ALONG, kind=CALM),
                          (("settled", CALM, ALONG, row(1), row(2)), (HALF, HALF)))
+
+    def test_a_free_place_between_balls_of_unlike_sizes(self):
+        """The middle is noughts, the room 3, and one centre 100 away: only rows very near to the middle go."""
+        data = known(((99, 9, 11), (-100, 0, 0)), ((-2, 0, 0), (1, 0, 0)))
+        for sign in (1, -1):
+            turned = tuple(tuple(moved_by(side, sign, 0) for side in each) for each in data)
+            place = row(0, 0, 0)
+            self.assertEqual((middle(CALM, turned, place), room(CALM, turned, place)), (place, (3, 1)))
+            self.check(self.PLACES, True, certify_place, CALM, turned, place)
 
     def test_free_places_near_and_far(self):
         """Two values are found where there is little room, and where much."""

@@ -132,6 +132,20 @@ class Form(unittest.TestCase):
                 if isinstance(node, ast.Call) and any(isinstance(part, ast.Starred) for part in node.args):
                     self.assertNotIn(node.func.id, CALLED_BY_PLACE)
 
+    def test_what_stands_behind_a_star_in_a_call(self):
+        for _, tree in self.each_tree():
+            for node in ast.walk(tree):
+                if isinstance(node, ast.Call):
+                    starred = [part.value for part in node.args if isinstance(part, ast.Starred)]
+                    self.assertTrue(all(isinstance(part, ast.Name) for part in starred), node.lineno)
+
+    def test_sets_are_only_measured(self):
+        for _, tree in self.each_tree():
+            called = [node for node in ast.walk(tree) if isinstance(node, ast.Call) and isinstance(node.func, ast.Name)]
+            sets = {node for node in called if node.func.id == "set"}
+            measured = {part for node in called if node.func.id in ("len", "sorted") for part in node.args}
+            self.assertEqual(sets - measured, set())
+
     def test_products_are_gone_through_at_once(self):
         for _, tree in self.each_tree():
             calls = {node for node in ast.walk(tree) if isinstance(node, ast.Call) and isinstance(node.func, ast.Name)
