@@ -11,13 +11,14 @@ from bringnear.gaps import EVERYWHERE, form, is_held
 from bringnear.grids import whole_dot
 from bringnear.kinds import is_gap, is_kind
 from bringnear.lots import brings, is_empty, is_lot, lot_lies_in, size_cut
-from bringnear.rates import are_weights, is_broken, is_closed_span, is_from_nil, is_method, is_shown
+from bringnear.rates import are_weights, is_broken, is_closed_span, is_method, is_shown
 from bringnear.ratios import (
     NIL,
     ONE,
     are_fractions,
     dot,
     is_fraction,
+    is_from_nil,
     is_index,
     is_up_to,
     minus,

@@ -5,7 +5,7 @@ from itertools import permutations
 from bringnear.data import are_items, is_pair, wrong_index
 from bringnear.errors import InvalidIndex, InvalidMarks, InvalidPoints, InvalidSpan, NoFunction
 from bringnear.grids import whole_dot
-from bringnear.ratios import common_bottom, is_fraction, is_index, is_up_to, lowest, ratio, whole_row
+from bringnear.ratios import common_bottom, is_fraction, is_from_nil, is_index, is_up_to, lowest, ratio, whole_row
 
 
 def is_span(value):
@@ -13,7 +13,7 @@ def is_span(value):
     if not isinstance(value, tuple) or len(value) != 2:
         return False
     low, high = value
-    if not is_fraction(low) or low[0] < 0:
+    if not is_from_nil(low):
         return False
     return high is None or (is_fraction(high) and not is_up_to(high, low))
 

@@ -11,6 +11,7 @@ from bringnear.ratios import (
     common_bottom,
     dot,
     is_fraction,
+    is_from_nil,
     is_index,
     is_up_to,
     is_whole,
@@ -38,11 +39,6 @@ def is_method(value):
 def is_closed_span(value):
     """Whether a value, whatever it is, is a span with an upper number."""
     return is_span(value) and value[1] is not None
-
-
-def is_from_nil(value):
-    """Whether a value, whatever it is, is a fraction from 0 on."""
-    return is_fraction(value) and value[0] >= 0
 
 
 def is_weight(value, many):
@@ -80,9 +76,15 @@ def check_method(value):
         raise InvalidMethod(value)
 
 
-def check_rate(value):
+def check_share(value):
     if not is_from_nil(value):
         raise InvalidShare(value)
+
+
+def check_rate(span, method, share):
+    check_rate_span(span)
+    check_method(method)
+    check_share(share)
 
 
 def check_weights(value, method):
@@ -99,7 +101,8 @@ def check_step(value):
 
 
 def check_short_step(value, size):
-    if not is_fraction(value) or value[0] <= 0 or not is_up_to(times(value, size), ONE):
+    check_step(value)
+    if not is_up_to(times(value, size), ONE):
         raise InvalidStep(value)
 
 
@@ -192,18 +195,14 @@ def is_broken(span, method, share, marks):
 
 def form(span, method, share, weights):
     """The form of the weights for the share."""
-    check_rate_span(span)
-    check_method(method)
-    check_rate(share)
+    check_rate(span, method, share)
     check_weights(weights, method)
     return form_of(span, method, share, weights)
 
 
 def shows_rate(span, method, share, weights):
     """Whether the weights are balanced and their form is nowhere below 0."""
-    check_rate_span(span)
-    check_method(method)
-    check_rate(share)
+    check_rate(span, method, share)
     check_weights(weights, method)
     return is_shown(span, method, share, weights)
 
@@ -217,9 +216,7 @@ def is_run(method, marks):
 
 def breaks_rate(span, method, share, marks):
     """Whether the marks are a run without a misfit which shows that the share is not had."""
-    check_rate_span(span)
-    check_method(method)
-    check_rate(share)
+    check_rate(span, method, share)
     check_marks(marks)
     return is_broken(span, method, share, marks)
 

@@ -27,6 +27,11 @@ def is_fraction(value):
     return is_whole(top) and is_whole(bottom) and bottom > 0 and gcd(top, bottom) == 1
 
 
+def is_from_nil(value):
+    """Whether a value, whatever it is, is a fraction from 0 on."""
+    return is_fraction(value) and value[0] >= 0
+
+
 def are_fractions(value, many):
     """Whether a value, whatever it is, is a tuple of so many fractions."""
     return isinstance(value, tuple) and len(value) == many and all(is_fraction(part) for part in value)
@@ -43,7 +48,7 @@ def check_size(value):
 
 
 def check_square(value):
-    if not is_fraction(value) or value[0] < 0:
+    if not is_from_nil(value):
         raise InvalidSquare(value)
 
 
